@@ -1,0 +1,1 @@
+"""Choosing sets of uncertain projects by one price for each state."""
