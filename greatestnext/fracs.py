@@ -116,3 +116,22 @@ def total(fracs):
     for frac in fracs:
         result = result + frac
     return result
+
+
+def greatest(fracs):
+    """Return the greatest of one or more fractions."""
+    best = fracs[0]
+    for frac in fracs:
+        if best.is_below(frac):
+            best = frac
+    return best
+
+
+def ascending(fracs):
+    """Return the fractions in ascending order, equal ones once."""
+    ordered = []
+    for frac in fracs:
+        at = len([other for other in ordered if other.is_below(frac)])
+        if at == len(ordered) or ordered[at] != frac:
+            ordered.insert(at, frac)
+    return ordered
