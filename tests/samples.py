@@ -6,6 +6,7 @@ import random
 from greatestnext.errors import Endless
 from greatestnext.families import Family, exchange_fault
 from greatestnext.fracs import Frac
+from greatestnext.houses import House, deeds, first_standing, outcomes
 from greatestnext.projects import Project
 
 ODD_VALUES = (
@@ -96,3 +97,41 @@ def random_family(chance, size):
     tops = [tuple(sorted(chance.sample(range(size), chance.randint(0, size)))) for _ in range(chance.randint(0, 4))]
     held = [part for part in sets_below(size) if part == () or any(set(part) <= set(top) for top in tops)]
     return Family(size, held)
+
+
+def random_house(chance, most_things=3, most_states=3):
+    """Return some house of at most this many things."""
+    size = chance.randint(1, most_things)
+    return House([random_project(chance, most_states) for _ in range(size)], random_family(chance, size))
+
+
+def some_plan(house, choose):
+    """Return the plan that does choose(standing, deeds) at each standing that it reaches; None with more than 60."""
+    plan = {}
+    left = [first_standing(house)]
+    while left:
+        standing = left.pop()
+        if standing not in plan:
+            plan[standing] = choose(standing, deeds(house, standing))
+            left.extend(after for _, after in outcomes(house, standing, plan[standing]))
+        if len(plan) > 60:
+            return None
+    return tuple(sorted(plan.items()))
+
+
+def some_plans(many, seed=1):
+    """Return pairs of a house and a plan for it, most of them not too small."""
+    chance = random.Random(seed)
+    found = []
+    while len(found) < many:
+        house = random_house(chance, most_states=4)
+        lazy = chance.random() < 0.3
+
+        def choose(standing, possible):
+            rest = possible if lazy or len(possible) == 1 else possible[1:]
+            return chance.choice(rest)
+
+        plan = some_plan(house, choose)
+        if plan is not None and (len(plan) > 5 or len(found) % 6 == 0):
+            found.append((house, plan))
+    return found
