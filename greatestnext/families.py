@@ -88,8 +88,8 @@ def family_of(size, fits):
 
 def from_tops(size, tops):
     """Return the family of the sets within the tops, and of ()."""
-    given = [(), *clean_sets(size, tops)]
-    return family_of(size, lambda things: any([is_part(things, top) for top in given]))
+    given = clean_sets(size, tops)
+    return family_of(size, lambda things: things == () or any([is_part(things, top) for top in given]))
 
 
 def uniform(size, most):

@@ -6,7 +6,7 @@ from greatestnext.circuits import circuits, closed_by, closure, swaps
 from greatestnext.errors import NoExchange
 from greatestnext.families import exchange_fault, forests, from_tops, independent_rows, uniform
 from tests.checks import Checks
-from tests.interface import defined_here, parameters
+from tests.interface import check_interface
 from tests.samples import BAD, FAMILIES, FOURS, GOOD, sets_below
 
 SIX = [
@@ -19,13 +19,10 @@ RIGHT = [*GOOD, *[family for family in FOURS if exchange_fault(family) is None],
 
 class Interface(unittest.TestCase):
     def test_defined_here(self):
-        wanted = {
+        check_interface(self, module, {
             "circuits": ["family"], "closed_by": ["family", "taken", "thing"], "closure": ["family", "things"],
             "swaps": ["family", "one", "other"],
-        }
-        for name, names in wanted.items():
-            self.assertTrue(defined_here(module, name), name)
-            self.assertEqual(parameters(getattr(module, name)), names)
+        })
 
 
 class Circuits(Checks):

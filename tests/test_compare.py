@@ -5,7 +5,7 @@ from greatestnext.compare import same_value, worse_at
 from greatestnext.fracs import Frac
 from greatestnext.prices import game_worth, least_prices
 from greatestnext.projects import Project
-from tests.interface import defined_here, parameters
+from tests.interface import check_interface
 from tests.reckon import best_games, frac, fraction
 from tests.samples import BOX, DEAR, LOST, NAMED, RISKY, TRIES, some_projects
 
@@ -21,10 +21,7 @@ def named_prices(*projects):
 
 class Interface(unittest.TestCase):
     def test_defined_here(self):
-        self.assertTrue(defined_here(compare, "worse_at"))
-        self.assertTrue(defined_here(compare, "same_value"))
-        self.assertEqual(parameters(worse_at), ["project", "other"])
-        self.assertEqual(parameters(same_value), ["project", "other"])
+        check_interface(self, compare, {"worse_at": ["project", "other"], "same_value": ["project", "other"]})
 
 
 class Worse(unittest.TestCase):

@@ -11,7 +11,7 @@ from greatestnext.families import (
 )
 from greatestnext.fracs import Frac
 from tests.checks import Checks, both_kinds, deep_list
-from tests.interface import defined_here, parameters
+from tests.interface import check_interface, parameters
 from tests.samples import BAD, FAMILIES, FOURS, GOOD, ODD_VALUES, random_family, sets_below
 
 PAIR = ((), (0,), (1,), (2,), (0, 1))
@@ -33,17 +33,13 @@ def first_fault(family):
 
 
 class Interface(unittest.TestCase):
-    wanted = {
-        "Family": ["size", "sets"], "exchange_fault": ["family"], "from_tops": ["size", "tops"], "uniform": ["size", "most"],
-        "quotas": ["size", "classes"], "forests": ["nodes", "edges"], "independent_rows": ["p", "rows"], "choices": ["lists"],
-        "beside": ["one", "other"], "cut": ["family", "most"], "without": ["family", "thing"], "behind": ["family", "thing"],
-        "turned": ["family"], "common": ["one", "other"],
-    }
-
     def test_defined_here(self):
-        for name, names in self.wanted.items():
-            self.assertTrue(defined_here(families, name), name)
-            self.assertEqual(parameters(getattr(families, name)), names)
+        check_interface(self, families, {
+            "Family": ["size", "sets"], "exchange_fault": ["family"], "from_tops": ["size", "tops"], "uniform": ["size", "most"],
+            "quotas": ["size", "classes"], "forests": ["nodes", "edges"], "independent_rows": ["p", "rows"],
+            "choices": ["lists"], "beside": ["one", "other"], "cut": ["family", "most"], "without": ["family", "thing"],
+            "behind": ["family", "thing"], "turned": ["family"], "common": ["one", "other"],
+        })
         for name in ("__init__", "__contains__", "__eq__", "rank", "full_sets", "addable"):
             self.assertIn(name, vars(Family))
         self.assertEqual(parameters(Family.rank), ["things"])
@@ -100,7 +96,9 @@ class Making(Checks):
         )
         for value in wrong:
             for function in (Family, from_tops):
-                for at, sets in ((0, [value]), (0, (value,)), (1, [(), value]), (2, [(0, 1), (), value, None, value]), (1, [[0], [[0]], value])):
+                for at, sets in (
+                    (0, [value]), (0, (value,)), (1, [(), value]), (2, [(0, 1), (), value, None, value]), (1, [[0], [[0]], value]),
+                ):
                     before = copy.deepcopy(sets)
                     self.assertEqual(self.error_of(InvalidFamily, function, 3, sets).at, at)
                     self.assertEqual(sets, before)
@@ -267,7 +265,8 @@ class Makers(Checks):
     def test_forests(self):
         chance = random.Random(6)
         cases = [
-            [(0, 1), (1, 2), (0, 2)], [(0, 0)], [(0, 1), (1, 0), (0, 1)], [(2, 2), (0, 1), (1, 1)], [(0, 1), (1, 2), (2, 3), (3, 0), (0, 2), (1, 3)],
+            [(0, 1), (1, 2), (0, 2)], [(0, 0)], [(0, 1), (1, 0), (0, 1)], [(2, 2), (0, 1), (1, 1)],
+            [(0, 1), (1, 2), (2, 3), (3, 0), (0, 2), (1, 3)],
         ]
         cases += [
             [(chance.randrange(5), chance.randrange(5)) for _ in range(chance.randint(1, 6))] for _ in range(30)
@@ -325,7 +324,8 @@ class Makers(Checks):
         chance = random.Random(8)
         cases = [
             [["a"], ["a"], ["b"]], [[]], [[], ["a", "b"]], [["a", "a"], ["a"]], [["x", "x", "y"], ["y", "x"], ["x", "y"]],
-            [["a", "b", "c", "d", "e", "f", "g"], ["a"], ["b"]], [[""], ["", " "], [" "]], [["a"], ["a", "b"], ["b", "c"], ["c"], ["a", "c"]],
+            [["a", "b", "c", "d", "e", "f", "g"], ["a"], ["b"]], [[""], ["", " "], [" "]],
+            [["a"], ["a", "b"], ["b", "c"], ["c"], ["a", "c"]],
         ]
         for _ in range(25):
             cases.append([[chance.choice("abcde") for _ in range(chance.randint(0, 3))] for _ in range(chance.randint(1, 6))])

@@ -10,7 +10,7 @@ from greatestnext.fracs import Frac
 from greatestnext.houses import House, deeds, first_standing, gain, outcomes
 from greatestnext.projects import Project
 from tests.checks import Checks, both_kinds, deep_list
-from tests.interface import defined_here, parameters
+from tests.interface import check_interface
 from tests.reckon import fraction
 from tests.samples import BOX, ODD_VALUES, RISKY, TRIES, random_house
 
@@ -41,13 +41,10 @@ def possible(house, standing):
 
 class Interface(unittest.TestCase):
     def test_defined_here(self):
-        wanted = {
+        check_interface(self, houses, {
             "House": ["projects", "family"], "first_standing": ["house"], "deeds": ["house", "standing"],
             "outcomes": ["house", "standing", "deed"], "gain": ["house", "standing", "deed"],
-        }
-        for name, names in wanted.items():
-            self.assertTrue(defined_here(houses, name), name)
-            self.assertEqual(parameters(getattr(houses, name)), names)
+        })
         self.assertIn("__init__", vars(House))
 
 

@@ -5,7 +5,7 @@ from greatestnext.errors import NoExchange
 from greatestnext.families import Family, choices, exchange_fault, forests, independent_rows, quotas, uniform
 from greatestnext.meets import largest_common, split, union, union_bound
 from tests.checks import Checks
-from tests.interface import defined_here, parameters
+from tests.interface import check_interface
 from tests.samples import BAD, FOURS, GOOD, sets_below
 
 RIGHT_FOURS = [family for family in FOURS if exchange_fault(family) is None]
@@ -21,13 +21,10 @@ PAIRS += [(one, other) for one in SIX for other in SIX]
 
 class Interface(unittest.TestCase):
     def test_defined_here(self):
-        wanted = {
+        check_interface(self, meets, {
             "largest_common": ["one", "other"], "union": ["one", "other"], "split": ["one", "other", "things"],
             "union_bound": ["one", "other", "things"],
-        }
-        for name, names in wanted.items():
-            self.assertTrue(defined_here(meets, name), name)
-            self.assertEqual(parameters(getattr(meets, name)), names)
+        })
 
 
 class Meets(Checks):

@@ -10,7 +10,7 @@ from greatestnext.houses import House, deeds, first_standing, gain, outcomes
 from greatestnext.plans import plan_fault, plan_worth, taken_shares
 from greatestnext.projects import Project
 from tests.checks import Checks, both_kinds, deep_list
-from tests.interface import defined_here, parameters
+from tests.interface import check_interface
 from tests.reckon import frac, fraction, solve
 from tests.samples import BOX, FREE, ODD_VALUES, RING, TRIES, VAIN, some_plan, some_plans
 
@@ -56,9 +56,8 @@ def shares_from_values(house, plan):
 
 class Interface(unittest.TestCase):
     def test_defined_here(self):
-        for name in ("plan_fault", "plan_worth", "taken_shares"):
-            self.assertTrue(defined_here(plans, name), name)
-            self.assertEqual(parameters(getattr(plans, name)), ["house", "plan"])
+        names = ["house", "plan"]
+        check_interface(self, plans, {"plan_fault": names, "plan_worth": names, "taken_shares": names})
 
 
 class Faults(Checks):
@@ -93,7 +92,8 @@ class Faults(Checks):
         for house, plan in [(HOUSE, PLAN), *PLANS[:6]]:
             for at in range(len(plan)):
                 standing, deed = plan[at]
-                wrong = [*ODD_VALUES, (standing,), (standing, deed, deed), (deed, standing), standing, deed, (standing, "stop"), (standing, None)]
+                wrong = [*ODD_VALUES, (standing,), (standing, deed, deed), (deed, standing), standing, deed]
+                wrong += [(standing, "stop"), (standing, None)]
                 wrong += [(value, deed) for value in ODD_VALUES] + [[standing, value] for value in ODD_VALUES]
                 wrong += [(standing, (word, thing)) for word in ("work", "take") for thing in (-1, 5, True, False, None, "0")]
                 for value in wrong:

@@ -8,7 +8,7 @@ from greatestnext.fracs import Frac, total
 from greatestnext.prices import fair_price, fair_prices, game_worth, least_prices, price_certificate, price_of
 from greatestnext.projects import Project
 from tests.checks import Checks, both_kinds, deep_list
-from tests.interface import defined_here, parameters
+from tests.interface import check_interface
 from tests.reckon import best_games, best_ratios, ends_of, frac, fraction, least_shares
 from tests.samples import BOX, CHAIN, DEAR, FREE, FULL, LOST, NAMED, ODD_VALUES, RING, RISKY, TRIES, VAIN, some_projects
 
@@ -32,16 +32,11 @@ def reached(project, state):
 
 class Interface(unittest.TestCase):
     def test_defined_here(self):
-        for name in ("game_worth", "fair_price", "fair_prices", "least_prices", "price_certificate", "price_of"):
-            self.assertTrue(defined_here(prices, name), name)
-
-    def test_names_of_arguments(self):
-        self.assertEqual(parameters(game_worth), ["project", "state", "price"])
-        self.assertEqual(parameters(fair_price), ["project", "state"])
-        self.assertEqual(parameters(fair_prices), ["project"])
-        self.assertEqual(parameters(least_prices), ["project", "state"])
-        self.assertEqual(parameters(price_certificate), ["project", "state"])
-        self.assertEqual(parameters(price_of), ["project", "state", "certificate"])
+        check_interface(self, prices, {
+            "game_worth": ["project", "state", "price"], "fair_price": ["project", "state"], "fair_prices": ["project"],
+            "least_prices": ["project", "state"], "price_certificate": ["project", "state"],
+            "price_of": ["project", "state", "certificate"],
+        })
 
 
 class Games(Checks):

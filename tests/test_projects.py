@@ -1,30 +1,18 @@
 import copy
 import itertools
 import random
-import unittest
 
 from greatestnext import projects
 from greatestnext.errors import Endless, InvalidProject
 from greatestnext.fracs import Frac
 from greatestnext.projects import Project
+from tests.checks import Checks, deep_list, deep_tuple
 from tests.interface import defined_here, parameters
 
 VOID = ("void",)
 END = ("end", 1)
 HUGE = 10 ** 399
 ODD_VALUES = (None, True, False, 0, 1, -1, HUGE, "", "end", "void", "step", [], (), [()], Frac(1), [Frac(1)], (1, 2), [[[]]])
-
-
-def deep_list(value):
-    if isinstance(value, (list, tuple)):
-        return [deep_list(part) for part in value]
-    return value
-
-
-def deep_tuple(value):
-    if isinstance(value, (list, tuple)):
-        return tuple(deep_tuple(part) for part in value)
-    return value
 
 
 def step_to(*states):
@@ -35,13 +23,9 @@ def eight(row):
     return [row] + [VOID] * 7
 
 
-class Checks(unittest.TestCase):
+class ProjectChecks(Checks):
     def assert_error(self, kind, state, function, *arguments):
-        with self.assertRaises(kind) as caught:
-            function(*arguments)
-        self.assertIs(type(caught.exception), kind)
-        self.assertIs(type(caught.exception.state), type(state))
-        self.assertEqual(caught.exception.state, state)
+        self.assert_keeps(self.error_of(kind, function, *arguments), "state", state)
 
     def assert_invalid(self, state, rows):
         for passed in (rows, deep_list(rows), deep_tuple(rows)):
@@ -55,14 +39,8 @@ class Checks(unittest.TestCase):
             with self.subTest(rows=passed):
                 self.assert_error(Endless, state, Project, passed)
 
-    def assert_tuples(self, value):
-        self.assertNotIsInstance(value, list)
-        if isinstance(value, tuple):
-            for part in value:
-                self.assert_tuples(part)
 
-
-class Interface(Checks):
+class Interface(ProjectChecks):
     def test_defined_here(self):
         self.assertTrue(defined_here(projects, "Project"))
         for name in ("__init__", "__len__", "__eq__", "kind", "worth", "cost", "shares", "sure", "box"):
@@ -78,7 +56,7 @@ class Interface(Checks):
         self.assertEqual(parameters(Project.box), ["cost", "prizes"])
 
 
-class Making(Checks):
+class Making(ProjectChecks):
     rows = [("step", 2, [(1, 0), (3, 1), (2, 3)]), ["end", Frac(-5, 3)], ["void"], ("step", Frac(1, 2), ([999, 2],))]
     clean = (
         ("step", Frac(2), ((1, 0), (3, 1), (2, 3))), ("end", Frac(-5, 3)), ("void",), ("step", Frac(1, 2), ((999, 2),)),
@@ -159,7 +137,7 @@ class Making(Checks):
             self.assertIs(project != value, True)
 
 
-class Shortcuts(Checks):
+class Shortcuts(ProjectChecks):
     def test_sure(self):
         self.assertEqual(Project.sure(6).rows, (("end", Frac(6)),))
         self.assertEqual(Project.sure(worth=Frac(-1, 2)).rows, (("end", Frac(-1, 2)),))
@@ -191,7 +169,7 @@ class Shortcuts(Checks):
             self.assert_error(InvalidProject, 2, Project.box, 1, [(1, 5), (1, worth), (1, worth)])
 
 
-class Bounds(Checks):
+class Bounds(ProjectChecks):
     def test_worths(self):
         for worth in (0, 1, -1, 9999, -9999, Frac(9999, 98), Frac(-9998, 99), Frac(1, 99), Frac(19998, 2)):
             self.assertEqual(Project([VOID, ("end", worth)]).rows[1][0], "end")
@@ -240,7 +218,7 @@ class Bounds(Checks):
             self.assert_invalid(None, [VOID] * many)
 
 
-class WrongRows(Checks):
+class WrongRows(ProjectChecks):
     def test_rows_of_other_kinds(self):
         for rows in (None, True, False, 0, 3, HUGE, "", "void", "abc", Frac(1), [], ()):
             self.assert_error(InvalidProject, None, Project, rows)
@@ -292,7 +270,7 @@ class WrongRows(Checks):
         self.assert_invalid(None, [step_to(0)] * 9)
 
 
-class EndlessRows(Checks):
+class EndlessRows(ProjectChecks):
     def test_document_example(self):
         self.assert_endless(0, [("step", 1, [(1, 0)])])
 

@@ -7,7 +7,7 @@ from greatestnext.families import Family, exchange_fault, forests, from_tops, un
 from greatestnext.fracs import Frac
 from greatestnext.weights import greedy_set, heaviest_set, quotient, set_weight
 from tests.checks import Checks
-from tests.interface import defined_here, parameters
+from tests.interface import check_interface
 from tests.reckon import frac, fraction
 from tests.samples import FAMILIES, FOURS, random_family, sets_below
 
@@ -28,13 +28,10 @@ def random_weights(chance, size):
 
 class Interface(unittest.TestCase):
     def test_defined_here(self):
-        wanted = {
+        check_interface(self, module, {
             "greedy_set": ["family", "weights"], "heaviest_set": ["family", "weights"], "set_weight": ["weights", "things"],
             "quotient": ["family"],
-        }
-        for name, names in wanted.items():
-            self.assertTrue(defined_here(module, name), name)
-            self.assertEqual(parameters(getattr(module, name)), names)
+        })
 
 
 class Weights(Checks):
