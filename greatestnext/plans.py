@@ -77,29 +77,37 @@ def need_plan(house, plan):
     return clean_pairs(house, plan)
 
 
-def mean_visits(house, pairs):
-    """Return how often each standing of the plan comes about in the mean."""
-    places = {standing: at for at, (standing, _) in enumerate(pairs)}
-    factors = [[] for _ in pairs]
-    for at, (standing, deed) in enumerate(pairs):
-        for share, after in standings_after(house, standing, deed):
-            factors[places[after]].append((share, at))
-    # The first standing is the least one, so that it stands first.
-    starts = [Frac(1 if at == 0 else 0) for at in range(len(pairs))]
+def mean_visits(ways):
+    """Return how often each place comes about in the mean, from pairs (share, place) of what follows each of them."""
+    factors = [[] for _ in ways]
+    for at, way in enumerate(ways):
+        for share, place in way:
+            factors[place].append((share, at))
+    # All begins at place 0.
+    starts = [Frac(1 if at == 0 else 0) for at in range(len(ways))]
     return solved(starts, factors)
+
+
+def planned_visits(house, pairs):
+    """Return how often each standing of the plan comes about in the mean."""
+    # The first standing is the least one, so that its place is 0.
+    places = {standing: at for at, (standing, _) in enumerate(pairs)}
+    return mean_visits([
+        [(share, places[after]) for share, after in standings_after(house, standing, deed)] for standing, deed in pairs
+    ])
 
 
 def plan_worth(house, plan):
     """Return the mean of the sum of all gains until the plan stops."""
     pairs = need_plan(house, plan)
-    visits = mean_visits(house, pairs)
+    visits = planned_visits(house, pairs)
     return total([many * gain_of(house, standing, deed) for many, (standing, deed) in zip(visits, pairs)])
 
 
 def taken_shares(house, plan):
     """Return the pairs (set, share) of what is taken in the end, in order of size."""
     pairs = need_plan(house, plan)
-    visits = mean_visits(house, pairs)
+    visits = planned_visits(house, pairs)
     found = []
     for taken in house.family.sets:
         ends = [many for many, ((held, _), deed) in zip(visits, pairs) if deed == ("stop",) and held == taken]

@@ -4,6 +4,7 @@ import itertools
 from fractions import Fraction
 
 from greatestnext.fracs import Frac
+from greatestnext.houses import deeds, gain, outcomes
 
 
 def fraction(frac):
@@ -122,3 +123,95 @@ def least_shares(project, state, fairs):
             price = target[1] if project.kind(target[0]) == "end" else None
             found[price] = found.get(price, 0) + chance
     return {price: share for price, share in found.items() if share != 0}
+
+
+def drawn_shares(project, state):
+    """Return the dict of least prices from the state on and their shares, by all ways to go on."""
+    return least_shares(project, state, best_ratios(project))
+
+
+def sets_behind(family, taken):
+    """Return the sets that can be taken behind taken."""
+    return [tuple(sorted(set(held) - set(taken))) for held in family.sets if set(taken) <= set(held)]
+
+
+def mean_of_draws(house, standing, weigh, shares_of=drawn_shares):
+    """Return the mean of weigh(sets behind taken, weights) over all ways to draw prices for the things not taken."""
+    taken, states = standing
+    columns = []
+    for thing, project in enumerate(house.projects):
+        column = {None: 1} if thing in taken else shares_of(project, states[thing])
+        columns.append(list(column.items()))
+    sets = sets_behind(house.family, taken)
+    mean = Fraction(0)
+    for row in itertools.product(*columns):
+        share = Fraction(1)
+        for _, part in row:
+            share *= part
+        mean += share * weigh(sets, [price for price, _ in row])
+    return mean
+
+
+def greedy_weight(sets, weights):
+    """Return the weight of the greedy set, by the words of the document."""
+    taken = ()
+    while True:
+        found = [
+            (-weight, thing) for thing, weight in enumerate(weights)
+            if weight is not None and weight > 0 and thing not in taken and tuple(sorted([*taken, thing])) in sets
+        ]
+        if not found:
+            return sum(weights[thing] for thing in taken)
+        taken = tuple(sorted([*taken, min(found)[1]]))
+
+
+def heaviest_weight(sets, weights):
+    """Return the greatest weight of a set."""
+    clean = [0 if weight is None or weight < 0 else weight for weight in weights]
+    return max(sum(clean[thing] for thing in held) for held in sets)
+
+
+def lightest_weight(sets, weights):
+    """Return the least weight of a set to which nothing can be added."""
+    full = [held for held in sets if not any(set(held) < set(other) for other in sets)]
+    return min(sum(weights[thing] for thing in held) for held in full)
+
+
+def best_values(house, standings, full_only=False):
+    """Return the greatest mean gain from each standing on, by changing deeds until no change earns more.
+
+    With full_only only plans count that stop with a full set alone.
+    """
+    choices = {standing: deeds(house, standing) for standing in standings}
+    if full_only:
+        choices = {standing: some if standing[0] in house.family.full_sets() else some[1:] for standing, some in choices.items()}
+    plan = {standing: some[0] for standing, some in choices.items()}
+    while True:
+        values = plan_values(house, plan)
+        better = dict(plan)
+        for standing in standings:
+            earned = {deed: deed_value(house, values, standing, deed) for deed in choices[standing]}
+            best = max(choices[standing], key=lambda deed: earned[deed])
+            if earned[best] > values[standing]:
+                better[standing] = best
+        if better == plan:
+            return values
+        plan = better
+
+
+def deed_value(house, values, standing, deed):
+    """Return the gain of the deed and the mean of the values behind it."""
+    after = sum((fraction(share) * values[after] for share, after in outcomes(house, standing, deed)), Fraction(0))
+    return fraction(gain(house, standing, deed)) + after
+
+
+def plan_values(house, plan):
+    """Return what is earned from each standing on if these deeds are done."""
+    standings = list(plan)
+    matrix = [[int(row == column) for column in range(len(plan))] for row in range(len(plan))]
+    right = []
+    for row, standing in enumerate(standings):
+        right.append(fraction(gain(house, standing, plan[standing])))
+        for share, after in outcomes(house, standing, plan[standing]):
+            matrix[row][standings.index(after)] -= fraction(share)
+    return dict(zip(standings, solve(matrix, right)))

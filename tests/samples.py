@@ -60,6 +60,14 @@ def random_project(chance, most=5):
             pass
 
 
+def project_with_ends(chance, most=4):
+    """Return some project without voids."""
+    while True:
+        project = random_project(chance, most)
+        if ("void",) not in project.rows:
+            return project
+
+
 def some_projects(many, most=5, seed=1):
     chance = random.Random(seed)
     return [random_project(chance, most) for _ in range(many)]
@@ -103,6 +111,30 @@ def random_house(chance, most_things=3, most_states=3):
     """Return some house of at most this many things."""
     size = chance.randint(1, most_things)
     return House([random_project(chance, most_states) for _ in range(size)], random_family(chance, size))
+
+
+def all_standings(house):
+    """Return all standings of the house."""
+    found = [()]
+    for project in house.projects:
+        found = [(*states, state) for states in found for state in range(len(project))]
+    return [(taken, states) for taken in house.family.sets for states in found]
+
+
+def good_house(chance, most_things=3, most_states=3):
+    """Return some house of at most this many things whose family has the exchange property."""
+    while True:
+        house = random_house(chance, most_things, most_states)
+        if exchange_fault(house.family) is None and len(house.family.sets) > 1:
+            return house
+
+
+def bad_house(chance, size=3, most_states=3):
+    """Return some house of this many things whose family lacks the exchange property."""
+    while True:
+        family = random_family(chance, size)
+        if exchange_fault(family) is not None:
+            return House([random_project(chance, most_states) for _ in range(size)], family)
 
 
 def some_plan(house, choose):

@@ -12,18 +12,10 @@ from greatestnext.projects import Project
 from tests.checks import Checks, both_kinds, deep_list
 from tests.interface import check_interface
 from tests.reckon import fraction
-from tests.samples import BOX, ODD_VALUES, RISKY, TRIES, random_house
+from tests.samples import BOX, ODD_VALUES, RISKY, TRIES, all_standings, random_house
 
 FAMILY = from_tops(3, [(0, 1), (2,)])
 HOUSE = House([BOX, TRIES, RISKY], FAMILY)
-
-
-def all_standings(house):
-    """Return all standings of the house."""
-    found = [()]
-    for project in house.projects:
-        found = [(*states, state) for states in found for state in range(len(project))]
-    return [(taken, states) for taken in house.family.sets for states in found]
 
 
 def possible(house, standing):
