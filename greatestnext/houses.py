@@ -71,18 +71,29 @@ def need_deed(house, standing, deed):
     return cleaned
 
 
+def moved(standing, thing, state):
+    """Return the standing with the thing in this state."""
+    taken, states = standing
+    before = states[:thing]
+    behind = states[thing + 1:]
+    return (taken, (*before, state, *behind))
+
+
+def took(standing, thing):
+    """Return the standing with the thing taken."""
+    taken, states = standing
+    return (joined(taken, (thing,)), states)
+
+
 def standings_after(house, standing, deed):
     """Return the outcomes of this deed at this clean standing."""
-    taken, states = standing
     if deed[0] == "stop":
         return ()
     thing = deed[1]
     if deed[0] == "take":
-        return ((Frac(1), (joined(taken, (thing,)), states)),)
-    before = states[:thing]
-    behind = states[thing + 1:]
-    shares = house.projects[thing].shares(states[thing])
-    return tuple([(share, (taken, (*before, goal, *behind))) for share, goal in shares])
+        return ((Frac(1), took(standing, thing)),)
+    shares = house.projects[thing].shares(standing[1][thing])
+    return tuple([(share, moved(standing, thing, goal)) for share, goal in shares])
 
 
 def gain_of(house, standing, deed):
